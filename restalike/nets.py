@@ -1,0 +1,80 @@
+"""Nets: halls, some of them joined two by two, and the rests of nets."""
+
+from restalike.errors import BadNet
+
+MOST_HALLS = 9
+
+
+def is_number(value, least, most):
+    """Tell whether a value is an integer from least to most."""
+    # To Python True and False are integers, to the package they are not.
+    if isinstance(value, bool) or not isinstance(value, int):
+        return False
+    return least <= value <= most
+
+
+def all_pairs(halls):
+    """Return the list of all pairs of so many halls, ascending."""
+    return [(x, y) for x in range(halls) for y in range(x + 1, halls)]
+
+
+def is_pair(value, halls):
+    """Tell whether a value is a pair of two of so many halls, the lesser one first."""
+    if not isinstance(value, tuple) or len(value) != 2:
+        return False
+    x, y = value
+    return is_number(x, 0, halls - 1) and is_number(y, x + 1, halls - 1)
+
+
+def are_pairs(value, halls):
+    """Tell whether a value is an ascending tuple of unlike pairs of so many halls."""
+    if not isinstance(value, tuple):
+        return False
+    for at, pair in enumerate(value):
+        if not is_pair(pair, halls):
+            return False
+        if at > 0 and pair <= value[at - 1]:
+            return False
+    return True
+
+
+def wrong_part(value):
+    """Return the word for what is wrong first with a value as a net, None for a net."""
+    if not isinstance(value, tuple) or len(value) != 2:
+        return "whole"
+    halls, pairs = value
+    if not is_number(halls, 1, MOST_HALLS):
+        return "halls"
+    if not are_pairs(pairs, halls):
+        return "pairs"
+    return None
+
+
+def check_net(value):
+    """Raise BadNet for anything but a net."""
+    part = wrong_part(value)
+    if part is not None:
+        raise BadNet(part)
+
+
+def is_net(value):
+    """Tell whether a value is a net."""
+    return wrong_part(value) is None
+
+
+def rest(net):
+    """Return the net of as many halls with just the pairs that a net doesn't have."""
+    check_net(net)
+    halls, pairs = net
+    return halls, tuple([pair for pair in all_pairs(halls) if pair not in pairs])
+
+
+def friends(net):
+    """Return the tuple of how many halls each hall of a net is joined to."""
+    check_net(net)
+    halls, pairs = net
+    counts = [0] * halls
+    for x, y in pairs:
+        counts[x] += 1
+        counts[y] += 1
+    return tuple(counts)

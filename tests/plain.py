@@ -1,0 +1,122 @@
+"""What the document says of nets and turns, worked out another way than the package does."""
+
+from itertools import combinations, permutations
+
+# Values that are no turns, for every function that takes one.
+NO_TURNS = (
+    [0], [1, 0], [1, 2, 3, 0],
+    (),
+    tuple(range(10)), (1, 2, 3, 4, 5, 6, 7, 8, 9, 0), tuple(range(200)),
+    (0, 0), (1, 1), (0, 1, 2, 1), (3, 3, 3, 3),
+    (1,), (1, 2), (0, 2), (-1,), (0, -1), (0, 1, 2, 4), (9, 0, 1, 2, 3, 4, 5, 6, 7), (10 ** 30, 0),
+    (True,), (False,), (True, 0), (True, False), (0, True), (1, False), (False, 1, 2), (0, 1, 2, True),
+    (None,), ("0",), (0, "1"), (0, None), ((0,),), ((), 0), (0, [1]), ([], []), ({}, 0), ((1, 0), 0), ("a", "b"),
+    None, True, False, 0, 1, 4, -1, "", "0", "01", "1230", "turn",
+    {}, {0: 0}, {0: 1, 1: 0}, [], [()], ((1, 0),), ((0, 1), (1, 0)), (4, ()),
+)
+
+# Values that are no nets, for every function that takes one, by the word for what is wrong first.
+NO_NETS = {
+    "whole": (
+        None, True, False, 0, 4, "", "ab", "net", {}, {4: ()}, {0: 4, 1: ()}, [], [4, ()], [4, ((0, 1),)],
+        (), (4,), ((4, ()),), (4, (), ()), (4, ((0, 1),), ()), (4, (0, 1), (1, 2)), (0,), (0, [], None), ([], [], []),
+    ),
+    "halls": (
+        (0, ()), (10, ()), (-1, ()), (10 ** 30, ()), (True, ()), (False, ()), ("4", ()), ("", ()), (None, ()),
+        ((), ()), ((4,), ()), ([4], ()), ({}, ()), ((), 4), (0, None), (10, []), (True, ((0, 1),)), ("4", "pairs"),
+        (None, None), (0, ((1, 0),)), (10, ((0, 9),)), (True, ((0, 0),)),
+    ),
+    "pairs": (
+        (4, []), (4, [(0, 1)]), (4, None), (4, True), (4, 0), (4, ""), (4, "01"), (4, {}), (4, {(0, 1): True}),
+        (4, (0, 1)), (4, (None,)), (4, ("01",)), (4, ([0, 1],)), (4, ((0, 1), [1, 2])), (4, ({0: 1},)),
+        (4, ((),)), (4, ((0,),)), (4, ((0, 1, 2),)), (4, ((0, 1), (1, 2, 3))), (4, ((0, 1), 2)), (4, (2, (0, 1))),
+        (4, ((1, 2), (0, 1))), (4, ((0, 2), (0, 1))), (4, ((0, 1), (2, 3), (1, 2))),
+        (4, ((0, 1), (0, 1))), (4, ((0, 1), (0, 2), (0, 2))),
+        (2, ((1, 0),)), (4, ((0, 1), (2, 1))), (4, ((0, 1), (1, 0))), (2, ((1, 1),)), (1, ((0, 0),)), (4, ((0, 0),)),
+        (1, ((0, 1),)), (2, ((0, 2),)), (4, ((3, 4),)), (9, ((0, 9),)), (9, ((8, 9),)), (4, ((-1, 0),)),
+        (4, ((-2, -1),)), (4, ((0, 10 ** 30),)), (4, ((4, 5),)),
+        (4, ((0, True),)), (4, ((False, 1),)), (4, ((False, True),)), (4, ((True, 2),)), (4, ((0, 1), (True, 3))),
+        (4, ((0, None),)), (4, ((None, 1),)), (4, (("0", "1"),)), (4, ((0, "1"),)), (4, ((0, (1,)),)),
+        (4, (((0, 1),),)), (4, (((), ()),)), (4, ((0, [1]),)), (4, (([], {}),)),
+    ),
+}
+
+
+def pairs_of(halls):
+    return list(combinations(range(halls), 2))
+
+
+def nets_of(halls):
+    """All nets of so many halls, ascending."""
+    lots = []
+    for many in range(len(pairs_of(halls)) + 1):
+        lots.extend(combinations(pairs_of(halls), many))
+    return [(halls, lot) for lot in sorted(lots)]
+
+
+def turns_of(halls):
+    return list(permutations(range(halls)))
+
+
+def joined(net, x, y):
+    return (x, y) in net[1] or (y, x) in net[1]
+
+
+def leads_by_words(turn, net):
+    """Any two halls are joined exactly if the two to which they are led aren't."""
+    halls = range(net[0])
+    return all(
+        joined(net, x, y) == (not joined(net, turn[x], turn[y]))
+        for x in halls for y in halls if x != y)
+
+
+def rings_by_powers(turn):
+    """The lengths of the rings, from the least number of times that brings each hall back."""
+    lengths = {}
+    for hall in range(len(turn)):
+        times, now = 1, turn[hall]
+        while now != hall:
+            times, now = times + 1, turn[now]
+        lengths[times] = lengths.get(times, 0) + 1
+    found = []
+    for times in lengths:
+        found.extend([times] * (lengths[times] // times))
+    return tuple(sorted(found))
+
+
+def pair_rings_by_joining(turn):
+    """The rings of pairs as lots that are put together as long as the turn leads one into another."""
+    lot_of = {frozenset(pair): {frozenset(pair)} for pair in pairs_of(len(turn))}
+    for pair in list(lot_of):
+        led = frozenset(turn[hall] for hall in pair)
+        if lot_of[led] is not lot_of[pair]:
+            lot = lot_of[led] | lot_of[pair]
+            for member in lot:
+                lot_of[member] = lot
+    return set(frozenset(lot) for lot in lot_of.values())
+
+
+def ring_lengths(halls, least=1):
+    """All ascending tuples of lengths of rings of so many halls."""
+    if halls == 0:
+        return [()]
+    return [(first, *others) for first in range(least, halls + 1) for others in ring_lengths(halls - first, first)]
+
+
+def turn_with_rings(lengths, places):
+    """A turn with rings of such lengths, laid through the halls in the order of places."""
+    turn = [None] * len(places)
+    start = 0
+    for length in lengths:
+        ring = places[start:start + length]
+        for at, hall in enumerate(ring):
+            turn[hall] = ring[(at + 1) % length]
+        start += length
+    return tuple(turn)
+
+
+def orders_of(halls):
+    """Some orders of the halls, straight and mixed."""
+    straight = list(range(halls))
+    mixed = [place for place in [(5 * at + 3) % 9 for at in range(9)] if place < halls]
+    return [straight, straight[::-1], straight[::2] + straight[1::2], mixed]

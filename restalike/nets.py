@@ -18,33 +18,46 @@ def all_pairs(halls):
     return [(x, y) for x in range(halls) for y in range(x + 1, halls)]
 
 
-def is_pair(value, halls):
-    """Tell whether a value is a pair of two of so many halls, the lesser one first."""
+def is_way(value, halls):
+    """Tell whether a value is a pair of two unlike ones of so many halls, in any order."""
     if not isinstance(value, tuple) or len(value) != 2:
         return False
     x, y = value
-    return is_number(x, 0, halls - 1) and is_number(y, x + 1, halls - 1)
+    return is_number(x, 0, halls - 1) and is_number(y, 0, halls - 1) and x != y
 
 
-def are_pairs(value, halls):
-    """Tell whether a value is an ascending tuple of unlike pairs of so many halls."""
+def are_ways(value, halls):
+    """Tell whether a value is an ascending tuple of unlike ways of so many halls."""
     if not isinstance(value, tuple):
         return False
-    for at, pair in enumerate(value):
-        if not is_pair(pair, halls):
+    for at, way in enumerate(value):
+        if not is_way(way, halls):
             return False
-        if at > 0 and pair <= value[at - 1]:
+        if at > 0 and way <= value[at - 1]:
             return False
     return True
 
 
-def wrong_part(value):
-    """Return the word for what is wrong first with a value as a net, None for a net."""
+def are_pairs(value, halls):
+    """Tell whether a value is an ascending tuple of unlike pairs of so many halls, the lesser ones first."""
+    return are_ways(value, halls) and all([x < y for x, y in value])
+
+
+def wrong_frame(value):
+    """Return the word for what is wrong with a value as a pair that begins with a number of halls, None for one."""
     if not isinstance(value, tuple) or len(value) != 2:
         return "whole"
-    halls, pairs = value
-    if not is_number(halls, 1, MOST_HALLS):
+    if not is_number(value[0], 1, MOST_HALLS):
         return "halls"
+    return None
+
+
+def wrong_part(value):
+    """Return the word for what is wrong first with a value as a net, None for a net."""
+    part = wrong_frame(value)
+    if part is not None:
+        return part
+    halls, pairs = value
     if not are_pairs(pairs, halls):
         return "pairs"
     return None

@@ -39,44 +39,44 @@ def leads(turn, net):
     return True
 
 
-def hall_ring(turn, hall):
-    """Return the list of the halls to which a turn leads a hall again and again, itself first."""
-    ring = [hall]
-    after = turn[hall]
-    while after != hall:
+def ring_from(led, member):
+    """Return the list of what a member is led to again and again, itself first."""
+    ring = [member]
+    after = led[member]
+    while after != member:
         ring.append(after)
-        after = turn[after]
+        after = led[after]
     return ring
+
+
+def rings_of(led, members):
+    """Return the list of the rings of members that are led to one another, each one from its least member on."""
+    found = [ring_from(led, member) for member in members]
+    # Each ring is found from every one of its members; the one from its least member stands for it.
+    return [ring for ring in found if ring[0] == min(ring)]
 
 
 def rings(turn):
     """Return the ascending tuple of the lengths of a turn's rings."""
     check_turn(turn)
-    found = [hall_ring(turn, hall) for hall in range(len(turn))]
-    # Each ring is found from every one of its halls; the one from its least hall stands for it.
-    return tuple(sorted([len(ring) for ring in found if ring[0] == min(ring)]))
+    return tuple(sorted([len(ring) for ring in rings_of(turn, sorted(turn))]))
+
+
+def divides_rings(number, turn):
+    """Tell whether a number divides the lengths of all rings of a turn, but for one 1 at most."""
+    others = [length for length in rings(turn) if length % number != 0]
+    return not others or others == [1]
 
 
 def can_lead(turn):
     """Tell whether a turn leads some net to its rest."""
-    others = [length for length in rings(turn) if length % 4 != 0]
-    return not others or others == [1]
-
-
-def pair_ring(turn, pair):
-    """Return the list of the pairs to which a turn leads a pair again and again, itself first."""
-    ring = [pair]
-    after = led_pair(turn, pair)
-    while after != pair:
-        ring.append(after)
-        after = led_pair(turn, after)
-    return ring
+    return divides_rings(4, turn)
 
 
 def pair_rings(turn):
     """Return the list of a turn's rings of pairs, each one a list that begins with its least pair."""
-    found = [pair_ring(turn, pair) for pair in all_pairs(len(turn))]
-    return [ring for ring in found if ring[0] == min(ring)]
+    pairs = all_pairs(len(turn))
+    return rings_of({pair: led_pair(turn, pair) for pair in pairs}, pairs)
 
 
 def count_pair_rings(turn):

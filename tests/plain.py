@@ -41,6 +41,34 @@ NO_NETS = {
     ),
 }
 
+# Values that are no one-way nets, for every function that takes one, by the word for what is wrong first.
+NO_ONE_WAYS = {
+    "whole": (*NO_NETS["whole"], [2, ((0, 1),)], (2, ((0, 1),), ((1, 0),)), (2, (0, 1), (1, 0))),
+    "halls": (*NO_NETS["halls"], (0, ((0, 0),)), (10, ((9, 0),)), (True, ((1, 0),)), ("2", ((1, 0),)), ([], ((1, 0),))),
+    "ways": (
+        (4, []), (4, [(1, 0)]), (4, None), (4, True), (4, 0), (4, ""), (4, "10"), (4, {}), (4, {(1, 0): True}),
+        (4, (1, 0)), (4, (None,)), (4, ("10",)), (4, ([1, 0],)), (4, ((0, 1), [1, 0])), (4, ({1: 0},)),
+        (4, ((),)), (4, ((1,),)), (4, ((2, 1, 0),)), (4, ((0, 1), (2, 1, 0))), (4, ((1, 0), 2)), (4, (2, (1, 0))),
+        (4, ((1, 0), (0, 1))), (4, ((2, 0), (1, 0))), (4, ((1, 2), (1, 0))), (4, ((0, 1), (3, 2), (2, 3))),
+        (4, ((1, 0), (1, 0))), (4, ((0, 1), (0, 1))), (4, ((0, 1), (1, 0), (1, 0))),
+        (2, ((0, 0),)), (2, ((1, 1),)), (1, ((0, 0),)), (4, ((1, 0), (1, 1))), (4, ((3, 3),)),
+        (1, ((0, 1),)), (1, ((1, 0),)), (2, ((2, 0),)), (2, ((0, 2),)), (4, ((4, 3),)), (4, ((3, 4),)),
+        (9, ((9, 0),)), (9, ((8, 9),)), (4, ((-1, 0),)), (4, ((0, -1),)), (4, ((-1, -2),)), (4, ((10 ** 30, 0),)),
+        (4, ((True, 0),)), (4, ((1, False),)), (4, ((True, False),)), (4, ((2, True),)), (4, ((1, 0), (3, True))),
+        (4, ((0, True), (1, 0))), (4, ((None, 0),)), (4, ((1, None),)), (4, (("1", "0"),)), (4, (("1", 0),)),
+        (4, (((1,), 0),)), (4, (((1, 0),),)), (4, (((), ()),)), (4, (([1], 0),)), (4, (([], {}),)),
+    ),
+}
+
+# Values that are not what rest_turn and way_turn may return for any net of more than one hall.
+NEVER_SHOWN = (
+    True, False, 0, 1, 4, -1, 10 ** 30, "", "1230", "turn", "None", (), ((),), [], [None], (None,), {}, {0: 1, 1: 0},
+    (True, False), (False, True), (1, False), (True, 0), ("1", "0"), (1, "0"), (None, None), ((1, 0), 0), ([1], [0]),
+    ((1, 0),), (1, 0, None), (4, ()), (2, ((0, 1),)), (0, 0), (1, 1), (1, 2), (-1, 0), (10 ** 30, 0), ({}, []),
+    (1, 3, 0, True), (True, 3, 0, 2), (1, 3, False, 2), (1, 3, 0, "2"), (1, 3, 0, 2, 4, 5, 6, 7, 8, 9), (0,),
+    (0, 0, 0, 0), (1, 3, 0, 0), (1, 3, 0, 4), (1, 3, 0, -2), tuple(range(10)), tuple(range(200)), (1, 2, 3, 4),
+)
+
 
 def pairs_of(halls):
     return list(combinations(range(halls), 2))
@@ -120,3 +148,50 @@ def orders_of(halls):
     straight = list(range(halls))
     mixed = [place for place in [(5 * at + 3) % 9 for at in range(9)] if place < halls]
     return [straight, straight[::-1], straight[::2] + straight[1::2], mixed]
+
+
+def ways_of(halls):
+    return list(permutations(range(halls), 2))
+
+
+def one_ways_of(halls):
+    """All one-way nets of so many halls."""
+    lots = [[]]
+    for way in ways_of(halls):
+        lots = lots + [[*lot, way] for lot in lots]
+    return [(halls, tuple(lot)) for lot in lots]
+
+
+def leads_ways_by_words(turn, net):
+    """There is a way from one hall to another exactly if there is none between the two to which they are led."""
+    halls = range(net[0])
+    return all(
+        ((x, y) in net[1]) == ((turn[x], turn[y]) not in net[1])
+        for x in halls for y in halls if x != y)
+
+
+def way_rings_by_joining(turn):
+    """The rings of ways as lots that are put together as long as the turn leads one into another."""
+    lot_of = {way: {way} for way in ways_of(len(turn))}
+    for x, y in list(lot_of):
+        led = turn[x], turn[y]
+        if lot_of[led] is not lot_of[x, y]:
+            lot = lot_of[led] | lot_of[x, y]
+            for member in lot:
+                lot_of[member] = lot
+    return set(frozenset(lot) for lot in lot_of.values())
+
+
+def turned(turn, members):
+    """The pairs or ways to which a turn leads some, for pairs the lesser hall not always first."""
+    return frozenset((turn[x], turn[y]) for x, y in members)
+
+
+def named_anew(net, names):
+    """A net that is like another one, its halls called by other names."""
+    return net[0], tuple(sorted(tuple(sorted((names[x], names[y]))) for x, y in net[1]))
+
+
+def shuffled(halls, step):
+    """Names for the halls, mixed by a step that has no divisor but 1 with 11."""
+    return [name for name in [step * at % 11 - 1 for at in range(1, 11)] if name < halls]

@@ -14,11 +14,19 @@ INTERFACE = {
         "BadLine"),
     "nets.py": ("is_net", "rest", "friends"),
     "turns.py": ("leads", "can_lead", "rings", "led_nets", "count_pair_rings", "count_led", "led_net"),
+    "restturns.py": ("rest_turn", "is_restalike", "shows_rest_turn"),
+    "counts.py": ("count_unlike", "count_unlike_ways", "has_restalike"),
+    "onewaynets.py": (
+        "is_one_way", "leads_ways", "can_lead_ways", "shows_way_turn", "way_rest", "led_ways", "count_led_ways",
+        "way_turn"),
 }
 
 STATEMENTS = (
     ast.FunctionDef, ast.ClassDef, ast.ImportFrom, ast.Assign, ast.AugAssign, ast.Expr, ast.If, ast.For, ast.While,
     ast.Return, ast.Raise, ast.Try, ast.Pass, ast.Break, ast.Continue, ast.Delete)
+
+# What a file may import from outside of the package.
+LIBRARY = {"math": ("gcd", "factorial")}
 
 BUILTINS = (
     "len", "range", "enumerate", "zip", "min", "max", "sum", "abs", "sorted", "reversed", "int", "str", "bool",
@@ -58,12 +66,35 @@ class FormTest(unittest.TestCase):
                     self.assertLessEqual(node.end_lineno - node.lineno + 1, 40, (name, node.name))
                     self.assertEqual(node.decorator_list, [], (name, node.name))
 
-    def test_imports_come_from_the_package_alone(self):
+    def test_imports(self):
+        modules = ["restalike." + file.stem for file in files()]
         for name, tree in trees():
             for node in ast.walk(tree):
                 if isinstance(node, ast.ImportFrom):
                     self.assertEqual(node.level, 0, (name, node.lineno))
-                    self.assertEqual(node.module.split(".")[0], "restalike", (name, node.lineno))
+                    self.assertIn(node.module, [*modules, *LIBRARY], (name, node.lineno))
+                    for word in node.names:
+                        self.assertIsNone(word.asname, (name, node.lineno))
+                        if node.module in LIBRARY:
+                            self.assertIn(word.name, LIBRARY[node.module], (name, node.lineno))
+                        else:
+                            self.assertIn(word.name, self.defined_in(node.module), (name, node.lineno))
+
+    def defined_in(self, module):
+        """The names that a module of the package itself binds, imported ones left out."""
+        body = dict(trees())[module.split(".")[1] + ".py"].body
+        names = [node.name for node in body if isinstance(node, (ast.FunctionDef, ast.ClassDef))]
+        return names + [node.targets[0].id for node in body if isinstance(node, ast.Assign)]
+
+    def test_no_name_of_an_import_is_bound_again(self):
+        for name, tree in trees():
+            imported = [word.name for node in tree.body if isinstance(node, ast.ImportFrom) for word in node.names]
+            bound = [node.id for node in ast.walk(tree) if isinstance(node, ast.Name) and
+                     not isinstance(node.ctx, ast.Load)]
+            bound += [node.arg for node in ast.walk(tree) if isinstance(node, ast.arg)]
+            bound += [node.name for node in ast.walk(tree) if isinstance(node, (ast.FunctionDef, ast.ClassDef))]
+            self.assertEqual([word for word in imported if word in bound], [], name)
+            self.assertEqual(len(set(imported)), len(imported), name)
 
     def test_builtins(self):
         for name, tree in trees():

@@ -2,16 +2,9 @@
 
 from math import factorial, gcd
 
-from restalike.errors import BadNumber
-from restalike.nets import is_number
+from restalike.nets import check_number
 
 MOST_COUNTED = 40
-
-
-def check_number(value):
-    """Raise BadNumber for anything but an integer from 1 to 40."""
-    if not is_number(value, 1, MOST_COUNTED):
-        raise BadNumber()
 
 
 def splits(number, least):
@@ -47,7 +40,7 @@ def count_crossing(lengths):
 
 def count_unlike(halls):
     """Return how many unlike nets of so many halls some turn leads to their rests."""
-    check_number(halls)
+    check_number(halls, MOST_COUNTED)
     led = 0
     for lengths in divided_rings(4, halls):
         within = sum([length // 2 for length in lengths])
@@ -57,7 +50,7 @@ def count_unlike(halls):
 
 def count_unlike_ways(halls):
     """Return how many unlike one-way nets of so many halls some turn leads to their rests."""
-    check_number(halls)
+    check_number(halls, MOST_COUNTED)
     led = 0
     for lengths in divided_rings(2, halls):
         within = sum([length - 1 for length in lengths])
@@ -68,5 +61,5 @@ def count_unlike_ways(halls):
 
 def has_restalike(halls):
     """Tell whether some turn leads a net of so many halls to its rest."""
-    check_number(halls)
+    check_number(halls, MOST_COUNTED)
     return halls % 4 < 2

@@ -1,6 +1,6 @@
 """Nets: halls, some of them joined two by two, and the rests of nets."""
 
-from restalike.errors import BadNet
+from restalike.errors import BadNet, BadNumber
 
 MOST_HALLS = 9
 
@@ -13,9 +13,20 @@ def is_number(value, least, most):
     return least <= value <= most
 
 
+def check_number(value, most):
+    """Raise BadNumber for anything but an integer from 1 to most."""
+    if not is_number(value, 1, most):
+        raise BadNumber()
+
+
 def all_pairs(halls):
     """Return the list of all pairs of so many halls, ascending."""
     return [(x, y) for x in range(halls) for y in range(x + 1, halls)]
+
+
+def both_ways(pairs):
+    """Return the tuple of the ways to and fro between the halls of pairs."""
+    return pairs + tuple([(y, x) for x, y in pairs])
 
 
 def is_way(value, halls):
@@ -26,16 +37,14 @@ def is_way(value, halls):
     return is_number(x, 0, halls - 1) and is_number(y, 0, halls - 1) and x != y
 
 
+def ascends(members):
+    """Tell whether members ascend, none of them twice."""
+    return all([members[at - 1] < members[at] for at in range(1, len(members))])
+
+
 def are_ways(value, halls):
     """Tell whether a value is an ascending tuple of unlike ways of so many halls."""
-    if not isinstance(value, tuple):
-        return False
-    for at, way in enumerate(value):
-        if not is_way(way, halls):
-            return False
-        if at > 0 and way <= value[at - 1]:
-            return False
-    return True
+    return isinstance(value, tuple) and all([is_way(way, halls) for way in value]) and ascends(value)
 
 
 def are_pairs(value, halls):

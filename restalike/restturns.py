@@ -1,6 +1,6 @@
 """The turns that lead given nets to their rests."""
 
-from restalike.nets import check_net
+from restalike.nets import both_ways, check_net
 from restalike.searches import find_turn
 from restalike.turns import is_turn, leads
 
@@ -9,7 +9,7 @@ def rest_turn(net):
     """Return a turn that leads a net to its rest, None without any."""
     check_net(net)
     halls, pairs = net
-    return find_turn(halls, pairs + tuple([(y, x) for x, y in pairs]))
+    return find_turn(halls, both_ways(pairs))
 
 
 def is_restalike(net):

@@ -69,6 +69,24 @@ NEVER_SHOWN = (
     (0, 0, 0, 0), (1, 3, 0, 0), (1, 3, 0, 4), (1, 3, 0, -2), tuple(range(10)), tuple(range(200)), (1, 2, 3, 4),
 )
 
+# Values that are no numbers from 1 to anything.
+NEVER_NUMBERS = (
+    0, -1, -4, -40, 10 ** 30, -10 ** 30, True, False, None, "", "4", "5", "40", "halls", (), (4,), (5,), (4, 5), [],
+    [4], {}, {4: 4}, (None,), (4, ()), ((),), "None", [None])
+
+# Values that are no strings.
+NO_TEXTS = (
+    None, True, False, 0, 1, 3, -1, 10 ** 30, (), ("halls 3",), ("halls 3", "pairs"), (3, ()), (3, ((0, 1),)), [],
+    ["halls 3", "pairs"], {}, {"halls": 3}, {"halls 3": "pairs"}, (None,), [[]])
+
+# Values that are no halls of any net.
+NO_HALLS = (-1, 9, 10, -9, 10 ** 30, True, False, None, "", "0", "1", "01", (), (0,), (0, 1), [], [0], {}, {0: 1})
+
+
+def no_numbers(most):
+    """Values that are no numbers from 1 to most."""
+    return (*NEVER_NUMBERS, most + 1, most + 2, 2 * most, -most)
+
 
 def pairs_of(halls):
     return list(combinations(range(halls), 2))

@@ -3,16 +3,12 @@ from fractions import Fraction
 from math import factorial, gcd
 
 from plain import (
-    leads_by_words, leads_ways_by_words, nets_of, one_ways_of, pair_rings_by_joining, turned, turns_of,
+    leads_by_words, leads_ways_by_words, nets_of, no_numbers, one_ways_of, pair_rings_by_joining, turned, turns_of,
     way_rings_by_joining)
 from restalike.counts import count_unlike, count_unlike_ways, has_restalike
 from restalike.errors import BadNumber
 
 OF_A_NUMBER = (count_unlike, count_unlike_ways, has_restalike)
-
-NO_NUMBERS = (
-    0, 41, -1, -40, 42, 100, 10 ** 30, -10 ** 30, True, False, None, "", "4", "40", "halls", (), (4,), (4, 5), [], [4],
-    {}, {4: 4}, (None,), (4, ()))
 
 
 def sort_out(nets, turn_members, leads):
@@ -139,7 +135,7 @@ class WrongValuesTest(unittest.TestCase):
 
     def test_no_numbers(self):
         for asked in OF_A_NUMBER:
-            for value in NO_NUMBERS:
+            for value in no_numbers(40):
                 with self.subTest(asked=asked.__name__, value=value):
                     before = repr(value)
                     with self.assertRaises(BadNumber) as caught:

@@ -19,7 +19,14 @@ INTERFACE = {
     "onewaynets.py": (
         "is_one_way", "leads_ways", "can_lead_ways", "shows_way_turn", "way_rest", "led_ways", "count_led_ways",
         "way_turn"),
+    "spans.py": ("distances", "span"),
+    "stepnets.py": ("rest_steps", "has_steps", "shows_rest_steps"),
+    "desks.py": ("Desk",),
+    "nettexts.py": ("write_net", "read_net"),
 }
+
+# The methods and properties that each class itself defines.
+METHODS = {"Desk": ("turn_over", "undo", "is_restalike", "net", "done")}
 
 STATEMENTS = (
     ast.FunctionDef, ast.ClassDef, ast.ImportFrom, ast.Assign, ast.AugAssign, ast.Expr, ast.If, ast.For, ast.While,
@@ -30,7 +37,7 @@ LIBRARY = {"math": ("gcd", "factorial")}
 
 BUILTINS = (
     "len", "range", "enumerate", "zip", "min", "max", "sum", "abs", "sorted", "reversed", "int", "str", "bool",
-    "list", "tuple", "dict", "set", "isinstance", "any", "all", "ValueError", "KeyError")
+    "list", "tuple", "dict", "set", "isinstance", "any", "all", "property", "ValueError", "KeyError")
 
 
 def files():
@@ -64,7 +71,8 @@ class FormTest(unittest.TestCase):
                     self.assertIsInstance(node, STATEMENTS, (name, node.lineno))
                 if isinstance(node, ast.FunctionDef):
                     self.assertLessEqual(node.end_lineno - node.lineno + 1, 40, (name, node.name))
-                    self.assertEqual(node.decorator_list, [], (name, node.name))
+                    for decorator in node.decorator_list:
+                        self.assertEqual(ast.unparse(decorator), "property", (name, node.name))
 
     def test_imports(self):
         modules = ["restalike." + file.stem for file in files()]
@@ -109,6 +117,30 @@ class FormTest(unittest.TestCase):
             defined = [node.name for node in found[name].body if isinstance(node, (ast.FunctionDef, ast.ClassDef))]
             for word in wanted:
                 self.assertIn(word, defined, name)
+
+    def test_methods_are_defined_in_their_class(self):
+        classes = {node.name: node for _, tree in trees() for node in tree.body if isinstance(node, ast.ClassDef)}
+        for name, wanted in METHODS.items():
+            defined = [node.name for node in classes[name].body if isinstance(node, ast.FunctionDef)]
+            for word in wanted:
+                self.assertIn(word, defined, name)
+            self.assertEqual(len(set(defined)), len(defined), name)
+
+    def test_strings(self):
+        for name, tree in trees():
+            for node in ast.walk(tree):
+                if isinstance(node, ast.Constant) and isinstance(node.value, str):
+                    self.assertNotIn("%", node.value, (name, node.lineno))
+                    self.assertNotIn("__", node.value, (name, node.lineno))
+
+    def test_plain_expressions(self):
+        for name, tree in trees():
+            for node in ast.walk(tree):
+                self.assertNotIsInstance(node, (ast.GeneratorExp, ast.Set, ast.SetComp, ast.Lambda, ast.NamedExpr))
+                if isinstance(node, ast.BinOp):
+                    self.assertNotIsInstance(node.op, (ast.Div, ast.Pow, ast.MatMult), (name, node.lineno))
+                if isinstance(node, ast.Constant):
+                    self.assertNotIsInstance(node.value, (float, complex, bytes), (name, node.lineno))
 
 
 if __name__ == "__main__":
